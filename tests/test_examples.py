@@ -47,6 +47,12 @@ raises BadCurve(0)
 raises BadText(0, 2)
 """
 
+KIN = """
+>>> from curveboxes.kin import Apart, Same, compare, kin, shows_compare
+>>> [compare(laced(), cup()) == Apart(1, 1), compare(laced(), ~~laced()) == Same(), kin(laced(), laced()), shows_compare(laced(), cup(), Apart(2, 6))]
+[True, True, ((0, False, False), (2, False, True)), True]
+"""
+
 SQUARES = """
 >>> from curveboxes.squares import Square
 >>> square = turning()(2)
@@ -58,12 +64,56 @@ SQUARES = """
 raises BadPlace((0, 4))
 """
 
+RANGES = """
+>>> from curveboxes.covers import Cover, cover, shows_cover
+>>> from curveboxes.ranges import count, first_key, key_ahead, last_key, next_key, span_at, spans_of
+>>> [count(square, box), str(spans_of(square, box)), span_at(square, box, 1), first_key(square, box), last_key(square, box), next_key(square, box, 3), key_ahead(square, box, 7)]
+[3, '2 7-8 13', (7, 8), 2, 13, 7, 2]
+>>> [cover(square, box, 2) == Cover(Spans((2, 2), (7, 13)), 4), cover(square, box, 1).over, cover(square, box, 9).over]
+[True, 8, 0]
+>>> far = Square(laced(), 100)
+>>> [count(far, Box(1, 0, 10 ** 30, 1)), count(far, Box(1, 0, 1, 10 ** 30)), count(far, Box.square(100))]
+[500000000000000000000000000001, 1000000000000000000000000000000, 1]
+>>> count(square, Box(3, 3, 2, 1))
+raises BadBox('outside')
+"""
+
+CHAINS = """
+>>> from curveboxes.chains import Pages, pages, shows_pages, widest
+>>> from curveboxes.joints import Far, Near, is_edgewise, is_ring, joints, shows_joints, steps
+>>> [joints(laced()) == Far(2, 7), joints(plain(0, 3, 2, 1)) == Far(2, 3), steps(turning()), is_edgewise(turning()), is_ring(turning()), is_ring(ring())]
+[True, True, ((-1, 0), (0, -1), (0, 1), (1, 0)), True, False, True]
+>>> [pages(turning(), 2).shapes, pages(turning(), 3).shapes, widest(turning(), 3), pages(laced(), 1).tables]
+[((1, 2, 1, 0), (2, 1, 1, 1)), ((1, 3, 2, 3), (2, 2, 1, 0), (3, 1, 3, 3)), ((1, 3), (2, 2), (3, 1)), {1: (((0,), ()),)}]
+>>> [shows_joints(laced(), Far(3, 31)), shows_pages(turning(), 3, pages(turning(), 3)), bool(joints(laced()))]
+[True, True, False]
+>>> pages(laced(), 2)
+raises Endless(2, 7)
+"""
+
+RULES = """
+>>> from curveboxes.rules import AtLeast, AtMost, Begins, Both, Counting, Either, Follows, Not, Placing, Rule, Simple
+>>> from curveboxes.windows import Window, family, layers, refined, tables, window_at
+>>> shown = window_at(square, box)
+>>> [shown == Window(2, 2, (1, 2, 2, 1), ((2, 3),)), shown.ranges, family(3, 1), family(2, 2)]
+[True, 3, ((1, 1), (2, 1), (3, 1)), ((1, 1), (1, 2), (2, 1), (2, 2))]
+>>> [(level, x, y, window.follows) for level, x, y, window in layers(laced(), 2, 2)]
+[(1, 0, 0, ((0, 1), (1, 2), (2, 3))), (2, 1, 0, ((2, 1),)), (2, 0, 1, ((0, 1), (2, 3))), (2, 1, 1, ())]
+>>> [refined(turning(), Window(1, 1, (0,), ()), 1, 0, 1, 2) == Window(1, 2, (2, 0), ((1, 0),)), [len(tables(laced(), 2, 2)[size]) for size in family(2, 2)]]
+[True, [1, 1, 2, 4]]
+>>> rule = AtMost(2, 2, 3) & ~Follows(2, 2, (0, 0), (1, 1))
+>>> [str(rule), rule(shown), rule.many, Rule.read(str(rule)) == rule, Begins(2, 2, (1, 1))(shown), isinstance(Begins(1, 1, (0, 0)), Placing)]
+['( at most 3 of 2 2 and not 1 1 follows 0 0 of 2 2 )', True, 4, True, False, True]
+>>> AtMost(2, 2, 3) | AtMost(2, 1, 3)
+raises Unlike('size')
+"""
+
 
 class Examples(unittest.TestCase):
     def test_all_in_order(self):
         # One dict of names for all: later examples use what earlier ones bound.
         names = {}
-        for text in (BOXES, SPANS, CURVES, SQUARES):
+        for text in (BOXES, SPANS, CURVES, KIN, SQUARES, RANGES, CHAINS, RULES):
             run_examples(self, text, names)
 
 

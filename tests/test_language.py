@@ -58,6 +58,15 @@ def called(node):
     return node.func.id if isinstance(node, ast.Call) and isinstance(node.func, ast.Name) else None
 
 
+def is_generator(node):
+    return any(isinstance(part, (ast.Yield, ast.YieldFrom)) for part in ast.walk(node))
+
+
+def tree_targets(tree):
+    """The names that are assigned at module level."""
+    return [target for node in tree.body if isinstance(node, ast.Assign) for target in node.targets]
+
+
 def is_plain(node):
     """Whether an argument of sorted, min or max is plainly a number or a string, or a list of such."""
     if isinstance(node, ast.ListComp):
@@ -205,6 +214,39 @@ class Code(unittest.TestCase):
             self.assertIsNotNone(called(node.exc), where)
             self.assertIsNone(node.cause, where)
 
+    def test_stars_in_calls_stand_before_names(self):
+        for where, node in nodes(ast.Call):
+            self.assertFalse([part for part in node.keywords if part.arg is None], where)
+            for part in node.args:
+                if isinstance(part, ast.Starred):
+                    self.assertIsInstance(part.value, ast.Name, where)
+        for where, node in nodes(ast.List, ast.Tuple):
+            for part in node.elts:
+                if isinstance(part, ast.Starred):
+                    self.assertIsInstance(part.value, (ast.Name, ast.Attribute), where)
+
+    def test_generators_are_iterated_at_once(self):
+        names = {node.name for _, node in nodes(ast.FunctionDef) if is_generator(node)}
+        self.assertIn("layers", names)
+        for name, tree in TREES.items():
+            fine = set()
+            for node in ast.walk(tree):
+                if isinstance(node, (ast.For, ast.comprehension)):
+                    fine.add(node.iter)
+                if called(node) in ("list", "tuple", "sorted"):
+                    fine.update(node.args)
+            for node in ast.walk(tree):
+                if isinstance(node, ast.Call) and getattr(node.func, "attr", getattr(node.func, "id", "")) in names:
+                    self.assertIn(node, fine, f"{name}:{node.lineno}")
+                if isinstance(node, ast.Name):
+                    self.assertNotIn(node.id, names, f"{name}:{node.lineno}")
+
+    def test_orders_are_asked_of_plain_numbers(self):
+        for where, node in nodes(ast.Call):
+            self.assertNotEqual(getattr(node.func, "attr", ""), "sort", where)
+            if called(node) in ("sorted", "min", "max"):
+                self.assertEqual(node.keywords, [], where)
+
     def test_no_set_is_kept_or_iterated(self):
         for name, tree in TREES.items():
             fine = set()
@@ -256,17 +298,24 @@ class Definitions(unittest.TestCase):
     def test_local_names_hide_nothing(self):
         for name, tree in TREES.items():
             top = {part.name for node in tree.body if isinstance(node, ast.ImportFrom) for part in node.names}
-            top |= {node.name for node in tree.body if isinstance(node, (ast.ClassDef, ast.FunctionDef))}
+            top |= {node.name for node in tree.body if isinstance(node, ast.ClassDef)}
+            # A parameter may have the name of a function of its file: the interface has `joints` and `Near(joints)`.
+            own = {node.name for node in tree.body if isinstance(node, ast.FunctionDef)}
             for node in ast.walk(tree):
                 if isinstance(node, ast.arg):
                     self.assertNotIn(node.arg, top, f"{name}:{node.lineno}")
-                if isinstance(node, ast.Name) and isinstance(node.ctx, ast.Store):
-                    self.assertNotIn(node.id, top, f"{name}:{node.lineno}")
+                if isinstance(node, ast.Name) and isinstance(node.ctx, ast.Store) and node not in tree_targets(tree):
+                    self.assertNotIn(node.id, top | own, f"{name}:{node.lineno}")
+
+    def test_properties_are_not_assigned(self):
+        names = {node.name for _, node in nodes(ast.FunctionDef) if node.decorator_list}
+        for where, node in nodes(ast.Attribute):
+            if isinstance(node.ctx, ast.Store):
+                self.assertNotIn(node.attr, names, where)
+        plain = [node.name for where, node in nodes(ast.FunctionDef) if not node.decorator_list]
+        self.assertFalse(names & set(plain))
 
     def test_generators_have_names_of_their_own(self):
-        def is_generator(node):
-            return any(isinstance(part, ast.Yield) for part in ast.walk(node))
-
         names = [node.name for _, node in nodes(ast.FunctionDef)]
         for where, node in nodes(ast.FunctionDef):
             if is_generator(node):
