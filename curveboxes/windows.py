@@ -44,7 +44,7 @@ def is_window(value, many):
 
 def are_follows(value, places):
     """Whether any value is an ascending tuple of pairs of unlike indexes below so many, none twice on one side."""
-    if not isinstance(value, tuple) or len(value) > places:
+    if not isinstance(value, tuple):
         return False
     if not all([is_pair(pair) and is_follow(pair, places) for pair in value]):
         return False

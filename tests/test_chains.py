@@ -147,6 +147,9 @@ class Errors(unittest.TestCase):
             raised(self, TooMany, ("levels", 9), pages, curve, 2)
             self.assertTrue(pages(curve, 1))
             self.assertIs(shows_pages(curve, 2, pages(turning(), 2)), False)
+        with mock.patch("curveboxes.joints.LEVELS", 10), mock.patch("curveboxes.chains.LEVELS", 10):
+            raised(self, Endless, (10, 221455), pages, curve, 2)
+            raised(self, Endless, (10, 221455), shows_pages, curve, 2, None)
 
 
 class Shown(unittest.TestCase):
@@ -190,7 +193,14 @@ class Shown(unittest.TestCase):
                 if chain != chains[at] or any(type(part) is bool for part in (*chain[0], *chain[1][0])):
                     wrong = (*chains[:at], chain, *chains[at + 1:])
                     self.assertIs(shows_pages(turning(), 2, with_table(paper, 2, wrong)), False)
+        # These stand in the order, and what they lead to, read as chains, is there.
+        for chain in (((3, 3), ()), ((3, 3), (chains[-1][1][0],) * 2), ((3, 4), ((0, 1),)), ((4, 0), ((0, 1),)), ((3,), ())):
+            told = tuple(sorted([*chains, chain]))
+            for count in (2, 3):
+                self.assertIs(shows_pages(turning(), count, with_table(pages(turning(), count), 2, told)), False)
         first = pages(turning(), 1).tables[1]
+        self.assertIs(shows_pages(turning(), 1, Pages(((1, 1, 0, 0),), {1: (*first, ((4,), ()))})), False)
+        self.assertIs(shows_pages(turning(), 1, Pages(((1, 1, 0, 0),), {1: (*first, ((3,), ((0, 1),)))})), False)
         for key in (True, 1):
             self.assertIs(shows_pages(turning(), 1, Pages(((1, 1, 0, 0),), {key: first})), key is not True)
         self.assertIs(shows_pages(turning(), 1, Pages(((1, 1, 0, 0),), {1: (((False,), ()), *first[1:])})), False)
