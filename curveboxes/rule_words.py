@@ -7,16 +7,16 @@ NUMBERS = ("0", "1", "2", "3", "4", "5", "6", "7", "8", "9", "10", "11", "12", "
 
 
 class RuleWords:
-    """Goes through words and notes in `deeds` what is to be made of them, parts ahead of the whole.
+    """Goes through words and notes in `made` what is to be made of them, parts ahead of the whole.
 
-    A deed is a pair of a word and a tuple of numbers; `and`, `or` and `not` join the rules that were made last.
+    Each is a pair of a word and a tuple of numbers; `and`, `or` and `not` join the rules that were made last.
     """
 
     def __init__(self, words):
         self.words = words
         self.at = 0
         self.begun = 0
-        self.deeds = []
+        self.made = []
 
     def take_all(self):
         """Goes through all words, which have to be one rule."""
@@ -24,7 +24,7 @@ class RuleWords:
         if self.at < len(self.words):
             raise BadText(0, self.at)
 
-    def take(self, told):
+    def word_from(self, told):
         """The next word, which has to be one of those told."""
         if self.at == len(self.words) or self.words[self.at] not in told:
             raise BadText(0, self.at)
@@ -33,11 +33,11 @@ class RuleWords:
 
     def take_number(self):
         """The next word as a number."""
-        return int(self.take(NUMBERS))
+        return int(self.word_from(NUMBERS))
 
     def take_two(self, word):
         """The two numbers behind the next word, which has to be this one."""
-        self.take((word,))
+        self.word_from((word,))
         return self.take_number(), self.take_number()
 
     def take_rule(self):
@@ -45,19 +45,19 @@ class RuleWords:
         if self.begun == RULES:
             raise BadText(0, self.at)
         self.begun += 1
-        word = self.take(("(", "not", "at", "begins", *NUMBERS))
+        word = self.word_from(("(", "not", "at", "begins", *NUMBERS))
         if word == "(":
             self.take_joined()
         elif word == "not":
             self.take_rule()
-            self.deeds.append((word, ()))
+            self.made.append((word, ()))
         else:
             self.take_simple(word)
 
     def take_simple(self, word):
         """Goes through the words of a rule without others in it, behind the first one."""
         if word == "at":
-            kind = self.take(("most", "least"))
+            kind = self.word_from(("most", "least"))
             told = (self.take_number(),)
         elif word == "begins":
             kind = word
@@ -68,12 +68,12 @@ class RuleWords:
             one = self.take_two("follows")
             told = (*one, *other)
         size = self.take_two("of")
-        self.deeds.append((kind, (*size, *told)))
+        self.made.append((kind, (*size, *told)))
 
     def take_joined(self):
         """Goes through the words of two rules and those around them, behind the first one."""
         self.take_rule()
-        word = self.take(("and", "or"))
+        word = self.word_from(("and", "or"))
         self.take_rule()
-        self.take((")",))
-        self.deeds.append((word, ()))
+        self.word_from((")",))
+        self.made.append((word, ()))

@@ -20,7 +20,7 @@ class Rule:
         words = RuleWords(words_of(text))
         words.take_all()
         made = []
-        for word, numbers in words.deeds:
+        for word, numbers in words.made:
             if word == "not":
                 made.append(Not(made.pop()))
             elif word in ("and", "or"):

@@ -105,9 +105,12 @@ def refined(curve, window, x, y, width, height):
         raise BadRule("window")
     if not fits(x, width, window.width) or not fits(y, height, window.height):
         raise BadBox("outside")
-    mark = (window.width, window.height, window.states, window.follows)
-    found = refined_mark(curve, mark, x, y, (width, height))
-    return Window(*found)
+    return window_of(refined_mark(curve, mark_of(window), x, y, (width, height)))
+
+
+def mark_of(window):
+    """The tuple (width, height, states, follows) of a window."""
+    return window.width, window.height, window.states, window.follows
 
 
 def fits(first, many, parents):
@@ -142,39 +145,49 @@ def followed(digits, follows):
 
 def layers(curve, width, height):
     """Rows (level, x, y, window): each window that occurs, at its least level and its least place there."""
-    found = occurring(curve, width, height)
-    for row in found[(width, height)]:
-        yield row
+    need_curve(curve, "curve")
+    need_size(width, height)
+    found = occurring((curve,), width, height)
+    for level, x, y, marks in found[(width, height)]:
+        yield level, x, y, window_of(marks[0])
 
 
 def tables(curve, width, height):
     """For the sizes of the family the tuples of all windows that occur, in the order of `layers`."""
-    found = occurring(curve, width, height)
-    return {size: tuple([window for _, _, _, window in found[size]]) for size in found}
-
-
-def occurring(curve, width, height):
-    """For the sizes of the family the rows (level, x, y, window) of all windows that occur."""
     need_curve(curve, "curve")
     need_size(width, height)
+    found = occurring((curve,), width, height)
+    return {size: tuple([window_of(marks[0]) for _, _, _, marks in found[size]]) for size in found}
+
+
+def window_of(mark):
+    """The Window that a tuple (width, height, states, follows) tells."""
+    return Window(*mark)
+
+
+def occurring(curves, width, height):
+    """For the sizes of the family the rows (level, x, y, marks) of all that some curves have at the same places.
+
+    The marks are the windows of a place, for each curve a tuple (width, height, states, follows).
+    """
     sizes = family(width, height)
     ways = ways_between(sizes)
-    layer = [(0, 0, (1, 1, (0,), ()))]
+    layer = [(0, 0, tuple([(1, 1, (0,), ()) for _ in curves]))]
     found = {}
     level = 0
     while layer:
-        for y, x, mark in layer:
-            found[mark] = (level, x, y)
+        for y, x, marks in layer:
+            found[marks] = (level, x, y)
         if len(found) > WINDOWS:
             raise TooMany("windows", WINDOWS)
-        layer = windows_on(curve, layer, ways, found)
+        layer = windows_on(curves, layer, ways, found)
         level += 1
     # The last layer is empty.
     if level - 1 > LEVELS:
         raise TooMany("levels", LEVELS)
     rows = {size: [] for size in sizes}
-    for mark, place in found.items():
-        rows[mark[:2]].append((*place, Window(*mark)))
+    for marks, place in found.items():
+        rows[marks[0][:2]].append((*place, marks))
     return rows
 
 
@@ -189,16 +202,21 @@ def ways_between(sizes):
     return ways
 
 
-def windows_on(curve, layer, ways, found):
-    """The ascending rows (y, x, mark) of the windows that occur first a level on from those of a layer.
+def windows_on(curves, layer, ways, found):
+    """The ascending rows (y, x, marks) of the windows that occur first a level on from those of a layer.
 
-    Such a window comes from one that occurs first a level ahead, and at its least place from that one's.
+    Such windows come from ones that occur first a level ahead, and at their least place from that of these.
     """
     fresh = {}
-    for y, x, mark in layer:
-        for column, row, size in ways[mark[:2]]:
-            after = refined_mark(curve, mark, column, row, size)
+    for y, x, marks in layer:
+        for column, row, size in ways[marks[0][:2]]:
+            after = refined_marks(curves, marks, column, row, size)
             place = (2 * y + row, 2 * x + column)
             if after not in found and (after not in fresh or place < fresh[after]):
                 fresh[after] = place
-    return ascending([(*place, mark) for mark, place in fresh.items()])
+    return ascending([(*place, marks) for marks, place in fresh.items()])
+
+
+def refined_marks(curves, marks, x, y, size):
+    """What `refined_mark` tells for each curve."""
+    return tuple([refined_mark(curve, mark, x, y, size) for curve, mark in zip(curves, marks)])

@@ -32,6 +32,7 @@ def check_raise(test, code, told, names):
     exec("from curveboxes.errors import *", names)
     wanted = eval(told, names)
     with test.assertRaises(type(wanted)) as caught:
-        eval(code, names)
+        # Not `eval`: an assignment can raise, too.
+        exec(code, names)
     test.assertIs(type(caught.exception), type(wanted))
     test.assertTrue(same(list(vars(caught.exception).items()), list(vars(wanted).items())), vars(caught.exception))

@@ -108,12 +108,57 @@ RULES = """
 raises Unlike('size')
 """
 
+JUDGING = """
+>>> from curveboxes.judging import Always, Breach, Numbers, Twin, judge, most_ranges, never_more, numbers
+>>> from curveboxes.look_judging import shows_judge, shows_never_more, shows_numbers
+>>> [numbers(laced(), 2, 2).rows, numbers(turning(), 2, 2).rows]
+[((1, 1, 0, 0), (2, 2, 0, 1), (3, 2, 1, 0), (4, 2, 1, 1)), ((1, 1, 0, 0), (2, 2, 1, 0), (3, 2, 1, 1), (4, 3, 3, 1))]
+>>> [judge(turning(), AtMost(2, 2, 3)) == Breach(3, 3, 1), bool(judge(turning(), AtMost(2, 2, 4))), most_ranges(laced(), 1, 16), numbers(laced(), 2, 1).rows]
+[True, True, 16, ((1, 1, 0, 0), (2, 2, 1, 0))]
+>>> [never_more(laced(), turning(), 2, 1) == Breach(2, 1, 2), never_more(turning(), laced(), 2, 1) == Breach(1, 0, 0), bool(never_more(turning(), laced(), 2, 1, 1))]
+[True, True, True]
+>>> [shows_judge(turning(), AtMost(2, 2, 3), Breach(4, 7, 1)), shows_judge(turning(), AtMost(2, 2, 3), Breach(4, 0, 0)), shows_judge(laced(), AtMost(2, 2, 4), judge(laced(), AtMost(2, 2, 4)))]
+[True, False, True]
+"""
+
+STORES = """
+>>> from curveboxes.stores import Scan, Store, foes
+>>> store = Store(turning(), 2)
+>>> store[0, 1] = 5
+>>> store[2, 3] = 5
+>>> [foes(square, box), store.scan(box) == Scan((), 3, 2), list(store), store.deeds]
+[((0, 1), (2, 3)), True, [(0, 1, 5), (2, 3, 5)], 2]
+>>> store[2, 2] = 7
+>>> [store.scan(box) == Scan(((2, 2, 7),), 3, 3), store.sweep(box, 2) == Scan(((2, 2, 7),), 2, 2), store.all_of(box).passed, [str(lot) for lot, rows in store.lots(2)]]
+[True, True, 3, ['0 1 3 2', '2 3 1 1']]
+>>> store.exchange(laced(), 2)
+>>> [list(store), store.scan(box) == Scan(((2, 2, 7),), 1, 2), store.undo(), store.curve_now == turning()]
+[[(0, 1, 5), (2, 2, 7), (2, 3, 5)], True, 'exchange', True]
+>>> store.level_now = 1
+raises Outside((2, 2))
+"""
+
+BOOKS = """
+>>> from curveboxes.books import Book
+>>> book = Book(((2, 2), 1), ((2, 1), 3), ((2, 2), 2))
+>>> [str(book), book[2, 2], len(book), book.cost(laced()), book.cost(turning()), book.best(turning(), laced())]
+['3*2x1 3*2x2', 3, 2, 18, 18, ((18, 0), (18, 1))]
+>>> Book(((4, 5), 1))
+raises BadBook(0)
+"""
+
+DESK = """
+>>> from curveboxes.desk import Desk
+>>> Desk().run("maker turning", "level 2", "key 1 2", "place 7", "spans 1 1 2 2", "cover 2 1 1 2 2", "next 3 1 1 2 2", "judge at most 3 of 2 2", "most 2 2", "joints", "page 3")
+['ok', 'ok', '7', '1 2', '2 7-8 13', '2 7-13 over 4', '7', 'breach 3 3 1', '4 at 3 3 1', 'near 16', '1x3 2x2 3x1']
+"""
+
 
 class Examples(unittest.TestCase):
     def test_all_in_order(self):
         # One dict of names for all: later examples use what earlier ones bound.
         names = {}
-        for text in (BOXES, SPANS, CURVES, KIN, SQUARES, RANGES, CHAINS, RULES):
+        for text in (BOXES, SPANS, CURVES, KIN, SQUARES, RANGES, CHAINS, RULES, JUDGING, STORES, BOOKS, DESK):
             run_examples(self, text, names)
 
 

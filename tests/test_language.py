@@ -45,6 +45,7 @@ def files():
 
 FILES = files()
 TREES = {name: ast.parse(text) for name, text in FILES.items()}
+ERRORS = [node.name for node in TREES["errors.py"].body if isinstance(node, ast.ClassDef)]
 
 
 def nodes(*kinds):
@@ -60,6 +61,10 @@ def called(node):
 
 def is_generator(node):
     return any(isinstance(part, (ast.Yield, ast.YieldFrom)) for part in ast.walk(node))
+
+
+def is_setter(node):
+    return [part.attr for part in node.decorator_list if isinstance(part, ast.Attribute)] == ["setter"]
 
 
 def tree_targets(tree):
@@ -126,7 +131,15 @@ class Modules(unittest.TestCase):
                 elif isinstance(node, ast.Assign):
                     self.assertTrue(len(node.targets) == 1 and isinstance(node.targets[0], ast.Name), where)
                     inner = (ast.Constant, ast.Tuple, ast.BinOp, ast.operator, ast.unaryop, ast.UnaryOp, ast.Load)
-                    self.assertTrue(all(isinstance(part, inner) for part in ast.walk(node.value)), where)
+                    for part in ast.walk(node.value):
+                        # A dict stands alone, with plain values or functions from above in it.
+                        if isinstance(part, ast.Dict):
+                            self.assertIs(part, node.value, where)
+                        elif isinstance(part, ast.Name):
+                            self.assertIsInstance(node.value, ast.Dict, where)
+                            self.assertIn(part.id, [one.name for one in tree.body[:at] if isinstance(one, ast.FunctionDef)])
+                        else:
+                            self.assertIsInstance(part, inner, where)
                     bound.append(node.targets[0].id)
                 elif isinstance(node, ast.ImportFrom):
                     bound.extend([part.name for part in node.names])
@@ -210,9 +223,16 @@ class Code(unittest.TestCase):
                 self.assertIn(node.func.attr, METHODS | own, where)
 
     def test_errors_are_raised_on_the_spot(self):
+        fine = set()
+        for where, node in nodes(ast.ExceptHandler):
+            self.assertIsInstance(node.type, ast.Name, where)
+            self.assertIn(node.type.id, ERRORS, where)
+            fine.update(part for part in ast.walk(node) if isinstance(part, ast.Raise) and part.exc is None)
         for where, node in nodes(ast.Raise):
-            self.assertIsNotNone(called(node.exc), where)
-            self.assertIsNone(node.cause, where)
+            if node not in fine:
+                self.assertIn(called(node.exc), [*ERRORS, "TypeError"], where)
+                if node.cause is not None and getattr(node.cause, "value", "") is not None:
+                    self.assertIn(called(node.cause), ERRORS, where)
 
     def test_stars_in_calls_stand_before_names(self):
         for where, node in nodes(ast.Call):
@@ -263,7 +283,8 @@ class Definitions(unittest.TestCase):
         for where, node in nodes(ast.ClassDef):
             self.assertEqual((node.decorator_list, node.keywords), ([], []), where)
             names = [part.name for part in node.body if isinstance(part, ast.FunctionDef)]
-            self.assertEqual(len(names), len(set(names)), where)
+            setters = [part.name for part in node.body if isinstance(part, ast.FunctionDef) and is_setter(part)]
+            self.assertEqual(len(names), len(set(names)) + len(setters), where)
             for name in names:
                 if name.startswith("__"):
                     self.assertIn(name[2:-2], DOUBLE, where)
@@ -286,14 +307,33 @@ class Definitions(unittest.TestCase):
         for where, node in nodes(ast.FunctionDef):
             if node.name.startswith("__") and node.name not in ("__init__", "__call__"):
                 given = [part.arg for part in node.args.args]
-                self.assertIn(given, (["self"], ["self", "other"], ["self", "x"], ["self", "at"]), where)
+                plain = [["self"], ["self", "other"], ["self", "x"], ["self", "at"]]
+                if node.name in ("__setitem__", "__exit__"):
+                    plain = [["self", "at", "worth"], ["self", "kind", "value", "trace"]]
+                self.assertIn(given, plain, where)
                 self.assertEqual(node.args.defaults, [], where)
 
     def test_decorators_and_annotations(self):
         for where, node in nodes(ast.FunctionDef):
-            names = [part.id for part in node.decorator_list]
-            self.assertIn(names, ([], ["property"], ["staticmethod"], ["classmethod"]), where)
+            names = [ast.unparse(part) for part in node.decorator_list]
+            plain = ([], ["property"], ["staticmethod"], ["classmethod"], [f"{node.name}.setter"])
+            self.assertIn(names, plain, where)
             self.assertIsNone(node.returns, where)
+            if is_setter(node):
+                self.assertEqual([part.arg for part in node.args.args], ["self", "value"], where)
+
+    def test_setters_stand_below_their_properties(self):
+        for where, node in nodes(ast.ClassDef):
+            for at, part in enumerate(node.body):
+                if isinstance(part, ast.FunctionDef) and is_setter(part):
+                    above = node.body[at - 1]
+                    self.assertEqual((above.name, ast.unparse(above.decorator_list[0])), (part.name, "property"), where)
+
+    def test_exits_only_assign(self):
+        exits = [node for _, node in nodes(ast.FunctionDef) if node.name == "__exit__"]
+        self.assertEqual(len(exits), 1)
+        for row in exits[0].body:
+            self.assertRegex(ast.unparse(row), r"^(store = self\.store|store\.[a-z]+ = self\.[a-z]+)$")
 
     def test_local_names_hide_nothing(self):
         for name, tree in TREES.items():

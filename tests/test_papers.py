@@ -5,7 +5,9 @@ import unittest
 from curveboxes.chains import Pages
 from curveboxes.covers import Cover
 from curveboxes.joints import Far, Near
+from curveboxes.judging import Always, Breach, Numbers, Twin
 from curveboxes.kin import Apart, Same
+from curveboxes.stores import Scan
 from curveboxes.windows import Window
 from tests.examples import same
 from tests.values import HUGE, NEGATIVE, OWN, STRANGE
@@ -13,8 +15,10 @@ from tests.values import HUGE, NEGATIVE, OWN, STRANGE
 FIELDS = {
     Same: (), Apart: ("level", "key"), Cover: ("spans", "over"), Near: ("joints",), Far: ("level", "key"),
     Pages: ("shapes", "tables"), Window: ("width", "height", "states", "follows"),
+    Always: ("tables",), Breach: ("level", "x", "y"), Numbers: ("rows", "tables"), Twin: ("one", "other"),
+    Scan: ("rows", "seeks", "passed"),
 }
-FALSE = (Apart, Far)
+FALSE = (Apart, Far, Breach)
 ANY = [*STRANGE, *NEGATIVE, *HUGE, *OWN, Same(), Apart(1, 2), "x" * 3000, {(1, 1): (Near(()),)}, [[1], ({2: []},)]]
 
 
