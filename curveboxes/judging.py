@@ -3,7 +3,7 @@
 from curveboxes.needs import need_curve, need_many, need_size
 from curveboxes.papers import kept
 from curveboxes.rules import need_rule
-from curveboxes.windows import occurring, window_of
+from curveboxes.windows import occurring, window_of, window_tables
 
 MORE = 16
 
@@ -66,11 +66,6 @@ def judge(curve, rule):
     return Always(window_tables(found))
 
 
-def window_tables(found):
-    """What `tables` tells, from all windows that occur."""
-    return {size: tuple([window_of(marks[0]) for _, _, _, marks in rows]) for size, rows in found.items()}
-
-
 def numbers(curve, width, height):
     """The Numbers of ranges of all boxes of a size, each with the first box that has it."""
     need_curve(curve, "curve")
@@ -80,7 +75,7 @@ def numbers(curve, width, height):
     for level, x, y, marks in found[(width, height)]:
         number = window_of(marks[0]).ranges
         first.setdefault(number, (number, level, x, y))
-    rows = [first[key] for key in sorted([int(number) for number in first])]
+    rows = [first[key] for key in sorted([int(one) for one in first])]
     return Numbers(tuple(rows), window_tables(found))
 
 
@@ -99,7 +94,12 @@ def never_more(one, other, width, height, more=0):
     for level, x, y, marks in found[(width, height)]:
         if has_more(twin_of(marks), more):
             return Breach(level, x, y)
-    return Always({size: tuple([twin_of(marks) for _, _, _, marks in rows]) for size, rows in found.items()})
+    return Always(twin_tables(found))
+
+
+def twin_tables(found):
+    """For the sizes of a family the tuples of all Twins that occur."""
+    return {size: tuple([twin_of(marks) for _, _, _, marks in rows]) for size, rows in found.items()}
 
 
 def twin_of(marks):

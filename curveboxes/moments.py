@@ -16,35 +16,37 @@ class Moment:
         """The moment behind a deed of this moment."""
         return Moment(ground, marks, rows, word, self)
 
-    def index_from(self, key):
-        """The index of the first row whose key is this one or above it, or the number of rows."""
-        low = 0
-        high = len(self.marks)
-        while low < high:
-            middle = (low + high) // 2
-            if self.marks[middle] < key:
-                low = middle + 1
-            else:
-                high = middle
-        return low
-
-    def has(self, key):
-        """Whether there is a row with this key."""
-        at = self.index_from(key)
-        return at < len(self.marks) and self.marks[at] == key
-
     def with_row(self, key, row):
         """The moment behind a put of a row, in the place of one with the same key."""
-        at = self.index_from(key)
-        end = self.index_from(key + 1)
+        at = index_from(self.marks, key)
+        end = index_from(self.marks, key + 1)
         marks = self.marks[:at] + (key,) + self.marks[end:]
         return self.after("put", self.ground, marks, self.rows[:at] + (row,) + self.rows[end:])
 
     def without(self, key):
         """The moment behind a take of the row with this key."""
-        at = self.index_from(key)
+        at = index_from(self.marks, key)
         marks = self.marks[:at] + self.marks[at + 1:]
         return self.after("take", self.ground, marks, self.rows[:at] + self.rows[at + 1:])
+
+
+def index_from(marks, key):
+    """The index of the first of ascending keys that is this one or above it, or how many there are."""
+    low = 0
+    high = len(marks)
+    while low < high:
+        middle = (low + high) // 2
+        if marks[middle] < key:
+            low = middle + 1
+        else:
+            high = middle
+    return low
+
+
+def has_mark(marks, key):
+    """Whether a key is one of ascending ones."""
+    at = index_from(marks, key)
+    return at < len(marks) and marks[at] == key
 
 
 class Trial:

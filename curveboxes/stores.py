@@ -4,7 +4,7 @@ from curveboxes.boxes import Box
 from curveboxes.checks import is_between
 from curveboxes.covers import cover
 from curveboxes.errors import BadPlace, BadRow, NoDeed, NoRow, Outside, TooMany
-from curveboxes.moments import Moment, Trial
+from curveboxes.moments import Moment, Trial, has_mark, index_from
 from curveboxes.needs import need_many, need_square_and_box
 from curveboxes.papers import kept
 from curveboxes.ranges import first_key, next_key, spans_of
@@ -72,19 +72,19 @@ class Store:
         return isinstance(other, Store) and self.now.ground == other.now.ground and self.rows == other.rows
 
     def __contains__(self, x):
-        return x in self.now.ground and self.now.has(self.now.ground[x])
+        return x in self.now.ground and has_mark(self.now.marks, self.now.ground[x])
 
     def __getitem__(self, at):
         key = self.now.ground[at]
-        if not self.now.has(key):
+        if not has_mark(self.now.marks, key):
             raise NoRow(at)
-        return self.rows[self.now.index_from(key)][2]
+        return self.rows[index_from(self.now.marks, key)][2]
 
     def __setitem__(self, at, worth):
         key = self.now.ground[at]
         if not is_between(worth, 0, VALUE):
             raise BadRow(worth)
-        is_new = not self.now.has(key)
+        is_new = not has_mark(self.now.marks, key)
         if is_new and len(self.rows) == ROWS:
             raise TooMany("rows", ROWS)
         self.go(self.now.with_row(key, (at[0], at[1], worth)))
@@ -109,7 +109,7 @@ class Store:
         key = first_key(self.square_now, box)
         while key is not None:
             seeks += 1
-            at = self.now.index_from(key)
+            at = index_from(self.now.marks, key)
             key = None
             while at < len(self.rows) and self.rows[at][:2] in box:
                 found.append(self.rows[at])
@@ -123,10 +123,10 @@ class Store:
     def sweep(self, box, most):
         """The Scan that reads all rows with keys in the spans of a cover."""
         spans = cover(self.square_now, box, most).spans
-        read = []
+        met = []
         for low, high in spans:
-            read.extend(self.rows[self.now.index_from(low):self.now.index_from(high + 1)])
-        return Scan(rows_inside(box, read), len(spans), len(read))
+            met.extend(self.rows[index_from(self.now.marks, low):index_from(self.now.marks, high + 1)])
+        return Scan(rows_inside(box, met), len(spans), len(met))
 
     def all_of(self, box):
         """The Scan that reads all rows."""

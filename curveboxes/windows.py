@@ -156,8 +156,12 @@ def tables(curve, width, height):
     """For the sizes of the family the tuples of all windows that occur, in the order of `layers`."""
     need_curve(curve, "curve")
     need_size(width, height)
-    found = occurring((curve,), width, height)
-    return {size: tuple([window_of(marks[0]) for _, _, _, marks in found[size]]) for size in found}
+    return window_tables(occurring((curve,), width, height))
+
+
+def window_tables(found):
+    """For the sizes of a family the tuples of the windows that `occurring` tells."""
+    return {size: tuple([window_of(marks[0]) for _, _, _, marks in rows]) for size, rows in found.items()}
 
 
 def window_of(mark):

@@ -1,8 +1,10 @@
 """The examples of the document, as written."""
 
+import os
+import re
 import unittest
 
-from tests.examples import run_examples
+from tests.examples import run_examples, same
 
 BOXES = """
 >>> from curveboxes.boxes import Box
@@ -160,6 +162,29 @@ class Examples(unittest.TestCase):
         names = {}
         for text in (BOXES, SPANS, CURVES, KIN, SQUARES, RANGES, CHAINS, RULES, JUDGING, STORES, BOOKS, DESK):
             run_examples(self, text, names)
+
+
+class Readme(unittest.TestCase):
+    def test_its_code_tells_what_it_says(self):
+        path = os.path.join(os.path.dirname(os.path.dirname(os.path.abspath(__file__))), "README.md")
+        with open(path, "rb") as held:
+            blocks = re.findall(r"```python\n(.*?)```", held.read().decode("ascii"), re.S)
+        self.assertGreater(len(blocks), 3)
+        names = {}
+        for block in blocks:
+            exec(block, names)
+            self.check(block, names)
+
+    def check(self, block, names):
+        """Lines `CODE  # VALUE`, with the value perhaps on a line of its own, and a colon and words behind it."""
+        last = ""
+        for line in block.split("\n"):
+            code, _, told = line.partition("#")
+            last = code.strip() or last
+            found = re.match(r"('.*'|True|\(.*\)(, \d+)*|\[.*\]|\d+)(:|,|$)", told.strip())
+            if found and not re.match(r"(with|[a-z_]+ =|from|import)\b", last) and "undo" not in last:
+                with self.subTest(line):
+                    self.assertTrue(same(eval(last, names), eval(found[1], names)), eval(last, names))
 
 
 class TheRunner(unittest.TestCase):

@@ -1,9 +1,11 @@
 """Values of many kinds, and a check of the error that a call raises."""
 
 from curveboxes.boxes import Box
+from curveboxes.desk import Desk
 from curveboxes.makers import laced
 from curveboxes.spans import Spans
 from curveboxes.squares import Square
+from curveboxes.stores import Scan
 
 
 def nested(deep):
@@ -20,7 +22,7 @@ STRANGE = (
 )
 NEGATIVE = (-1, -2, -(10 ** 61))
 HUGE = (10 ** 61, 10 ** 62 - 1)
-OWN = (Box(0, 0), Spans((0, 1)), laced(), Square(laced(), 1))
+OWN = (Box(0, 0), Spans((0, 1)), laced(), Square(laced(), 1), Desk(), Scan((), 1, 0))
 
 
 def raised(test, error, fields, call, *values, **named):
