@@ -69,7 +69,6 @@ def judge(curve, rule):
 def numbers(curve, width, height):
     """The Numbers of ranges of all boxes of a size, each with the first box that has it."""
     need_curve(curve, "curve")
-    need_size(width, height)
     found = occurring((curve,), width, height)
     first = {}
     for level, x, y, marks in found[(width, height)]:

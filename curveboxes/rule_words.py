@@ -15,7 +15,7 @@ class RuleWords:
     def __init__(self, words):
         self.words = words
         self.at = 0
-        self.begun = 0
+        self.opened = 0
         self.made = []
 
     def take_all(self):
@@ -42,9 +42,9 @@ class RuleWords:
 
     def take_rule(self):
         """Goes through the words of a rule."""
-        if self.begun == RULES:
+        if self.opened == RULES:
             raise BadText(0, self.at)
-        self.begun += 1
+        self.opened += 1
         word = self.word_from(("(", "not", "at", "begins", *NUMBERS))
         if word == "(":
             self.take_joined()

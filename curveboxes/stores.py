@@ -102,11 +102,10 @@ class Store:
 
     def scan(self, box):
         """The Scan that skips from range to range of the box."""
-        need_square_and_box(self.square_now, box)
+        key = first_key(self.square_now, box)
         found = []
         passed = 0
         seeks = 0
-        key = first_key(self.square_now, box)
         while key is not None:
             seeks += 1
             at = index_from(self.now.marks, key)

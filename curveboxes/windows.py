@@ -146,7 +146,6 @@ def followed(digits, follows):
 def layers(curve, width, height):
     """Rows (level, x, y, window): each window that occurs, at its least level and its least place there."""
     need_curve(curve, "curve")
-    need_size(width, height)
     found = occurring((curve,), width, height)
     for level, x, y, marks in found[(width, height)]:
         yield level, x, y, window_of(marks[0])
@@ -155,7 +154,6 @@ def layers(curve, width, height):
 def tables(curve, width, height):
     """For the sizes of the family the tuples of all windows that occur, in the order of `layers`."""
     need_curve(curve, "curve")
-    need_size(width, height)
     return window_tables(occurring((curve,), width, height))
 
 
@@ -172,7 +170,8 @@ def window_of(mark):
 def occurring(curves, width, height):
     """For the sizes of the family the rows (level, x, y, marks) of all that some curves have at the same places.
 
-    The marks are the windows of a place, for each curve a tuple (width, height, states, follows).
+    The marks are the windows of a place, for each curve a tuple (width, height, states, follows). The width and the
+    height can be any values: it raises as `family`.
     """
     sizes = family(width, height)
     ways = ways_between(sizes)

@@ -303,6 +303,15 @@ class Definitions(unittest.TestCase):
             self.assertFalse({name for kind in (str, int, list, dict, set, bytes) for name in dir(kind)} & {
                 name for name in methods if not name.startswith("__")}, where)
 
+    def test_no_name_is_a_method_and_an_attribute(self):
+        methods, stored = set(), set()
+        for _, node in nodes(ast.ClassDef):
+            methods |= {part.name for part in node.body if isinstance(part, ast.FunctionDef)}
+        for _, node in nodes(ast.Attribute):
+            if isinstance(node.ctx, ast.Store):
+                stored.add(node.attr)
+        self.assertEqual(methods & stored, set())
+
     def test_operators_have_plain_parameters(self):
         for where, node in nodes(ast.FunctionDef):
             if node.name.startswith("__") and node.name not in ("__init__", "__call__"):

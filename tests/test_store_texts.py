@@ -166,6 +166,10 @@ class Read(unittest.TestCase):
                 words = ["row", "0", "0", "5"]
                 words[at] = word
                 raised(self, BadText, (2, at), self.read_with, 2, words)
+        # Such a word comes ahead of what is wrong with the curve.
+        for x, y, at in ((FAR, 0, 1), (0, FAR, 2)):
+            lines = ("level 100", "curve 0>0 1>0 2>0 3>1", f"row {x} {y} 1")
+            raised(self, BadText, (2, at), read_store, text_of(*lines))
         store = read_store(text_of("level 100", LACED, f"row {FAR - 1} {FAR - 1} {10 ** 9}"))
         self.assertEqual(store.rows, ((FAR - 1, FAR - 1, 10 ** 9),))
         for x, y in ((4, 0), (0, 4), (FAR - 1, FAR - 1)):
